@@ -1,0 +1,1 @@
+"""Beatferry: letters that cross by one bit a beat."""
