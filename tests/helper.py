@@ -46,14 +46,110 @@ def drawn_questions(seed, many):
         yield q, drawn_hand(chance, q), chance.randrange(q)
 
 
-def counted(ask):
-    """What ask() tells; fails where that takes too many steps."""
+def drawn(seed, many):
+    """Drawn (q, source, hand), q up to 60, the source itself and hands near it among them."""
+    chance = random.Random(seed)
+    for at in range(many):
+        q = 60 - at % 60
+        source = drawn_hand(chance, q)
+        near = (0, 2 ** chance.randrange(q), 2 ** q - 1, drawn_hand(chance, q), drawn_hand(chance, q))
+        yield q, source, source ^ near[at // 60 % 5]
+
+
+def small(most):
+    """Every (q, source, hand) of up to so many bits."""
+    for q in range(1, most + 1):
+        for source in range(2 ** q):
+            for hand in range(2 ** q):
+                yield q, source, hand
+
+
+def written_crossed(q, hand, j, source):
+    """The bits as point 5 words them, with sets of bits in the stead of numbers."""
+    apart = {k for k in range(q) if hand // 2 ** k % 2 != source // 2 ** k % 2}
+    order = list(range(j, q)) + list(range(j))
+    middle = [k for k in order if k in apart and k != j]
+    return (j, *middle) if j in apart else (j, *middle, j)
+
+
+def written_way(q, hand, j, source):
+    hands = [source]
+    for k in written_crossed(q, hand, j, source):
+        last = hands[-1]
+        hands.append(last - 2 ** k if last // 2 ** k % 2 else last + 2 ** k)
+    return tuple(hands)
+
+
+def comes(q, hand, i, source):
+    """The beat at which the letter put on its way at beat i comes to the hand: walked, a beat a bit."""
+    t = i - 1
+    for k in written_crossed(q, hand, i % q, source):
+        t += 1
+        while t % q != k:
+            t += 1
+    return t
+
+
+def walked(q, m, source, beats):
+    """By (hand, beat) the (teller, letter) that comes; each beat's letter goes along all ways of its tree."""
+    came = {}
+    for i in range(beats):
+        for hand in range(2 ** q):
+            t = comes(q, hand, i, source)
+            if (hand, t) in came:
+                raise ValueError("two letters at one beat")
+            came[hand, t] = (written_way(q, hand, i % q, source)[-2], min(i, m - 1))
+    return came
+
+
+def nested(make, depth):
+    """A thing so many deep; make(inner) puts one more around it."""
+    thing = make(0)
+    for _ in range(depth - 1):
+        thing = make(thing)
+    return thing
+
+
+def oddities():
+    """Things of any kind, for what is asked of anything."""
+    return [
+        None, True, False, 0, 1, -1, 7, 10 ** 30, -10 ** 30, "", "0", "(0, 1)", (), [], {}, {0: 1}, {"a": (1,)},
+        (0,), (None,), ((),), ((), ()), [()], ([],), ({},), ("",), (True, False), (0, (1, (2, [3]))),
+        (0, (), (0,), (0,)), ((0, 1),), ((0, 1), (0, 1)), [[0, 1]], (((0, 1),),),
+        nested(lambda inner: (inner,), 30), nested(lambda inner: [inner], 30), nested(lambda inner: {0: inner}, 30),
+        nested(lambda inner: (inner, inner), 12), nested(lambda inner: ((0, 1), inner), 30),
+        nested(lambda inner: {"a": [inner]}, 15),
+    ]
+
+
+def mutants(thing, others):
+    """The thing with one thing otherwise, at any place of its tuples; what stands for it is of others, too."""
+    if isinstance(thing, tuple):
+        yield list(thing)
+        for at, inner in enumerate(thing):
+            ahead, behind = thing[:at], thing[at + 1:]
+            yield ahead + behind
+            yield ahead + (inner, inner) + behind
+            yield ahead + (inner,) + thing[:1] + behind
+            yield ahead + behind[:1] + (inner,) + behind[1:]
+            for other in mutants(inner, others):
+                yield ahead + (other,) + behind
+        yield thing + (0,)
+        yield {0: thing}
+    if isinstance(thing, int):
+        yield from (thing + 1, thing - 1, -thing, ~thing, thing ^ 1, thing ^ 2, str(thing), [thing], (thing,))
+        yield bool(thing)
+    yield from others
+
+
+def counted(ask, most=MOST_STEPS):
+    """What ask() tells; fails where that takes more steps."""
     steps = 0
 
     def trace(frame, event, arg):
         nonlocal steps
         steps += 1
-        if steps > MOST_STEPS:
+        if steps > most:
             raise TooManySteps(steps)
         return trace
 
@@ -63,3 +159,22 @@ def counted(ask):
         return ask()
     finally:
         sys.settrace(before)
+
+
+def check_asking(test, ask, named, source=None):
+    """By places, by names in any order, or both, the same is told; the source by its name alone, 0 left out."""
+    places = tuple(named.values())
+    turned = dict(reversed(named.items()))
+    lots = [{}] if source is None else [{}, {"source": 0}, {"source": source}]
+    for more in lots:
+        before = repr(named)
+        want = ask(*places, **more)
+        same(test, ask(**named, **more), want, ask.__name__, named, more)
+        same(test, ask(**more, **turned), want, ask.__name__, named, more)
+        last = list(named)[-1]
+        same(test, ask(*places[:-1], **{last: places[-1]}, **more), want, ask.__name__, named, more)
+        test.assertEqual(repr(named), before)
+    if source is not None:
+        same(test, ask(*places), ask(*places, source=0), ask.__name__, named)
+        with test.assertRaises(TypeError):
+            ask(*places, source)

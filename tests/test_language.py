@@ -1,6 +1,7 @@
 """Those rules of LANGUAGE.md that can be seen file by file; the rest is for the reader."""
 
 import ast
+import builtins
 import os
 import re
 import unittest
@@ -17,6 +18,16 @@ BARRED_NAMES = {
     "help", "id", "locals", "os", "quit", "setattr", "sys", "vars", "chr", "float", "complex", "frozenset",
     "hash", "map", "filter", "round", "pow", "print", "object", "bytearray", "memoryview", "callable",
 }
+ALLOWED_BUILTINS = set(
+    "len range enumerate zip min max sum abs sorted reversed int str bool bytes list tuple dict set isinstance ord"
+    " repr any all divmod iter next Exception ValueError TypeError KeyError IndexError LookupError ZeroDivisionError"
+    " ArithmeticError OverflowError RuntimeError NotImplementedError AttributeError StopIteration NotImplemented"
+    " property staticmethod classmethod super".split())
+ALLOWED_METHODS = set(
+    "append clear copy count endswith extend find get index insert isalnum isalpha isdigit islower isspace isupper"
+    " items join keys ljust lower lstrip partition pop remove replace reverse rfind rjust rpartition rsplit rstrip"
+    " setdefault split splitlines startswith strip update upper values zfill bit_length add discard sort"
+    " isascii isdecimal".split())
 
 
 def names():
@@ -32,6 +43,31 @@ def files():
 def parsed():
     for name, text in files():
         yield name, ast.parse(text)
+
+
+def bound_at_top(tree):
+    """The names that a file defines itself."""
+    for node in tree.body:
+        if isinstance(node, (ast.FunctionDef, ast.ClassDef)):
+            yield node.name
+        elif isinstance(node, ast.Assign):
+            yield from (target.id for target in node.targets)
+
+
+def imported(tree):
+    """(module, name) of each import of a file."""
+    for node in tree.body:
+        if isinstance(node, ast.ImportFrom):
+            yield from ((node.module, alias.asname or alias.name) for alias in node.names)
+
+
+def local_names(tree):
+    """Parameters, and all names that functions assign."""
+    for node in ast.walk(tree):
+        if isinstance(node, ast.arg):
+            yield node.arg
+        elif isinstance(node, ast.Name) and isinstance(node.ctx, ast.Store):
+            yield node.id
 
 
 class Files(unittest.TestCase):
@@ -61,6 +97,61 @@ class Code(unittest.TestCase):
                     self.assertIn(node, tree.body, name)
                     self.assertEqual(node.level, 0, name)
                     self.assertRegex(node.module, r"\Abeatferry\.", name)
+
+    def test_imports_name_the_file_that_defines(self):
+        defined = {f"beatferry.{name[:-3]}": set(bound_at_top(tree)) for name, tree in parsed()}
+        for name, tree in parsed():
+            for module, word in imported(tree):
+                self.assertIn(word, defined[module], name)
+
+    def test_no_two_files_import_from_each_other(self):
+        ahead = {f"beatferry.{name[:-3]}": {module for module, _ in imported(tree)} for name, tree in parsed()}
+        while ahead:
+            free = [module for module in ahead if not ahead[module] & set(ahead)]
+            self.assertTrue(free, ahead)
+            ahead = {module: ahead[module] for module in ahead if module not in free}
+
+    def test_each_name_is_bound_once(self):
+        for name, tree in parsed():
+            top = list(bound_at_top(tree)) + [word for _, word in imported(tree)]
+            self.assertEqual(len(top), len(set(top)), name)
+
+    def test_no_local_name_hides_an_import_a_class_or_a_builtin(self):
+        for name, tree in parsed():
+            barred = {word for _, word in imported(tree)} | set(dir(builtins))
+            barred |= {node.name for node in tree.body if isinstance(node, ast.ClassDef)}
+            self.assertEqual(sorted(barred & set(local_names(tree))), [], name)
+
+    def test_builtins(self):
+        for name, tree in parsed():
+            used = {node.id for node in ast.walk(tree) if isinstance(node, ast.Name)}
+            self.assertEqual(sorted(used & set(dir(builtins)) - ALLOWED_BUILTINS), [], name)
+
+    def test_methods(self):
+        own = set()
+        for _, tree in parsed():
+            for node in ast.walk(tree):
+                if isinstance(node, ast.ClassDef):
+                    own |= {method.name for method in node.body if isinstance(method, ast.FunctionDef)}
+        for name, tree in parsed():
+            for node in ast.walk(tree):
+                if isinstance(node, ast.Call) and isinstance(node.func, ast.Attribute):
+                    self.assertIn(node.func.attr, ALLOWED_METHODS | own, name)
+
+    def test_is(self):
+        for name, tree in parsed():
+            for node in ast.walk(tree):
+                if isinstance(node, ast.Compare):
+                    for sign, right in zip(node.ops, node.comparators):
+                        if isinstance(sign, (ast.Is, ast.IsNot)):
+                            self.assertIsInstance(right, ast.Constant, name)
+                            self.assertIn(right.value, (None, True, False), name)
+
+    def test_lists_in_the_stead_of_generator_expressions(self):
+        # any, all, sum and the like take lists where a class has an __eq__: so they do from the first.
+        for name, tree in parsed():
+            for node in ast.walk(tree):
+                self.assertNotIsInstance(node, ast.GeneratorExp, name)
 
     def test_functions_are_short(self):
         for name, tree in parsed():

@@ -2,25 +2,9 @@ import random
 import unittest
 
 from beatferry.trees import crossed, delay, hearers, teller, way
-from helper import counted, drawn_hand, same
+from helper import counted, drawn, same, small, written_crossed, written_way
 
 ASKED = (way, crossed, delay, teller, hearers)
-
-
-def written_crossed(q, hand, j, source):
-    """The bits as point 5 words them, with sets of bits in the stead of numbers."""
-    apart = {k for k in range(q) if hand // 2 ** k % 2 != source // 2 ** k % 2}
-    order = list(range(j, q)) + list(range(j))
-    middle = [k for k in order if k in apart and k != j]
-    return (j, *middle) if j in apart else (j, *middle, j)
-
-
-def written_way(q, hand, j, source):
-    hands = [source]
-    for k in written_crossed(q, hand, j, source):
-        last = hands[-1]
-        hands.append(last - 2 ** k if last // 2 ** k % 2 else last + 2 ** k)
-    return tuple(hands)
 
 
 def written_delay(q, hand, j, source):
@@ -28,23 +12,6 @@ def written_delay(q, hand, j, source):
         return q
     order = list(range(j, q)) + list(range(j))
     return order.index(written_crossed(q, hand, j, source)[-1])
-
-
-def drawn(seed, many):
-    """Drawn (q, source, hand), q up to 60, the source itself and hands near it among them."""
-    chance = random.Random(seed)
-    for at in range(many):
-        q = 60 - at % 60
-        source = drawn_hand(chance, q)
-        near = (0, 2 ** chance.randrange(q), 2 ** q - 1, drawn_hand(chance, q), drawn_hand(chance, q))
-        yield q, source, source ^ near[at // 60 % 5]
-
-
-def small(most):
-    for q in range(1, most + 1):
-        for source in range(2 ** q):
-            for hand in range(2 ** q):
-                yield q, source, hand
 
 
 class ByHand(unittest.TestCase):
