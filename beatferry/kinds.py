@@ -9,3 +9,22 @@ def is_number(thing):
 def is_hand(q, thing):
     """Whether it is one of the hands of q bits."""
     return is_number(thing) and 0 <= thing < 1 << q
+
+
+def is_lot(q, thing):
+    """Whether it is a rising tuple of hands."""
+    if not isinstance(thing, tuple) or not all([is_hand(q, one) for one in thing]):
+        return False
+    return all([one < other for one, other in zip(thing, thing[1:])])
+
+
+def is_field_number(p, thing):
+    """Whether it is a number of the field of p."""
+    return is_number(thing) and 0 <= thing < p
+
+
+def is_row(p, k, thing):
+    """Whether it is a row of k numbers of the field of p."""
+    if not isinstance(thing, tuple) or len(thing) != k:
+        return False
+    return all([is_field_number(p, one) for one in thing])

@@ -102,6 +102,11 @@ def walked(q, m, source, beats):
     return came
 
 
+def written_value(p, row, x):
+    """The sum as point 10 words it."""
+    return sum(number * x ** at for at, number in enumerate(row)) % p
+
+
 def nested(make, depth):
     """A thing so many deep; make(inner) puts one more around it."""
     thing = make(0)

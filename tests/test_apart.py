@@ -182,8 +182,8 @@ class NotTaken(unittest.TestCase):
             at = chance.randrange(q)
             one = right[at]
             place = chance.randrange(len(one))
-            others = [
-                right[:at] + right[at + 1:], right + (one,), list(right), right[:at] + (right[at - 1],) + right[at + 1:]]
+            twice = right[:at] + (right[at - 1],) + right[at + 1:]
+            others = [right[:at] + right[at + 1:], right + (one,), list(right), twice]
             for changed in (
                     one[:place] + one[place + 1:], one[:place] + one[place:place + 1] + one[place:], one[1:], one[:-1],
                     list(one), one[:place] + (str(one[place]),) + one[place + 1:],

@@ -161,9 +161,10 @@ class Asking(unittest.TestCase):
             check_asking(self, told, {"q": 4, "m": 9, "hand": 13, "t": t}, source=6)
 
     def test_asked_again_the_same(self):
-        first = heard(6, 50, 37, 44, source=11), told(6, 50, 37, 44, source=11), tree_at(6, 37, 44, source=11)
-        heard(6, 50, 12, 45, source=3)
-        same(self, (heard(6, 50, 37, 44, source=11), told(6, 50, 37, 44, source=11), tree_at(6, 37, 44, source=11)), first)
+        for ask in (heard, told):
+            first = ask(6, 50, 37, 44, source=11)
+            ask(6, 50, 12, 45, source=3)
+            same(self, ask(6, 50, 37, 44, source=11), first, ask.__name__)
 
     def test_few_steps(self):
         everyone = 2 ** 60 - 1

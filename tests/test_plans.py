@@ -152,7 +152,8 @@ class Wrong(unittest.TestCase):
     def test_one_whose_hearer_hears_a_lesser(self):
         same(self, judged(3, 1, (((0, 1, 0),), ((0, 2, 0), (1, 2, 0)))), ("wrong", 1, 1))
         same(self, judged(3, 2, (((2, 1, 0),), ((1, 0, 0), (2, 0, 1))), source=2), ("wrong", 1, 2))
-        same(self, judged(4, 1, (((0, 1, 0),), ((0, 2, 0), (1, 3, 0)), ((0, 1, 0), (2, 1, 0), (3, 1, 0)))), ("wrong", 2, 2))
+        right = plan(2, 1)
+        same(self, judged(4, 1, right + (((0, 1, 0), (2, 1, 0), (3, 1, 0)),)), ("wrong", 2, 2))
 
     def test_one_who_has_not_the_letter(self):
         same(self, judged(2, 1, (((1, 0, 0),),)), ("wrong", 0, 1))
