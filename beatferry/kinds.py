@@ -18,6 +18,11 @@ def is_lot(q, thing):
     return all([one < other for one, other in zip(thing, thing[1:])])
 
 
+def is_lot_beside(q, most, ends, thing):
+    """Whether it is a lot of at most so many hands, without these ends."""
+    return is_lot(q, thing) and len(thing) <= most and not any([one in thing for one in ends])
+
+
 def is_field_number(p, thing):
     """Whether it is a number of the field of p."""
     return is_number(thing) and 0 <= thing < p

@@ -1,7 +1,7 @@
 """Rows told by rounds while some hands are silent."""
 
 from beatferry.apart import spoilt
-from beatferry.kinds import is_hand, is_lot, is_row
+from beatferry.kinds import is_hand, is_lot_beside, is_row
 from beatferry.rows import value, values, vanishing
 
 
@@ -40,7 +40,7 @@ def shows_parting(p, q, f, k, thing, *, source=0):
     hand, lot, row, other = thing
     if not is_hand(q, hand) or hand == source:
         return False
-    if not is_lot(q, lot) or len(lot) > f or source in lot or hand in lot:
+    if not is_lot_beside(q, f, (source, hand), lot):
         return False
     if not is_row(p, k, row) or not is_row(p, k, other) or row == other:
         return False

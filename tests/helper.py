@@ -90,6 +90,12 @@ def comes(q, hand, i, source):
     return t
 
 
+def written_since(q, m, hand, i, source):
+    """Walked along the ways: the last letter also in the stead of each that is put on its way behind it."""
+    behind = q + 1 if i == m - 1 else 1
+    return min(comes(q, hand, one, source) for one in range(i, i + behind))
+
+
 def walked(q, m, source, beats):
     """By (hand, beat) the (teller, letter) that comes; each beat's letter goes along all ways of its tree."""
     came = {}

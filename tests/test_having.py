@@ -3,13 +3,7 @@ import unittest
 
 from beatferry.beats import heard
 from beatferry.having import end, first_lack, holds, last_beat, many, since
-from helper import check_asking, comes, counted, drawn, same, walked
-
-
-def written_since(q, m, hand, i, source):
-    """Walked along the ways: the last letter also in the stead of each that is put on its way behind it."""
-    behind = q + 1 if i == m - 1 else 1
-    return min(comes(q, hand, one, source) for one in range(i, i + behind))
+from helper import check_asking, counted, drawn, same, walked, written_since
 
 
 def written_lacks(q, m, hand, t, source):

@@ -190,5 +190,68 @@ class Code(unittest.TestCase):
                     self.assertIn(exponent.value, range(65), name)
 
 
+def own_classes():
+    for name, tree in parsed():
+        for node in tree.body:
+            if isinstance(node, ast.ClassDef):
+                yield name, node
+
+
+def methods_of(node):
+    return [method for method in node.body if isinstance(method, ast.FunctionDef)]
+
+
+class Classes(unittest.TestCase):
+    def test_no_name_is_a_method_here_and_an_attribute_there(self):
+        methods = {method.name for _, node in own_classes() for method in methods_of(node)}
+        stored = set()
+        for _, tree in parsed():
+            for node in ast.walk(tree):
+                if isinstance(node, ast.Attribute) and isinstance(node.ctx, ast.Store):
+                    stored.add(node.attr)
+        self.assertEqual(sorted(methods & stored), [])
+
+    def test_no_method_twice(self):
+        for name, node in own_classes():
+            some = [method.name for method in methods_of(node)]
+            self.assertEqual(len(some), len(set(some)), (name, node.name))
+
+    def test_double_underscore_methods(self):
+        for name, node in own_classes():
+            for method in methods_of(node):
+                if not method.name.startswith("__"):
+                    continue
+                self.assertIn(method.name, ("__init__", "__eq__", "__len__"), (name, node.name))
+                returns = [one for one in ast.walk(method) if isinstance(one, ast.Return)]
+                if method.name == "__init__":
+                    self.assertEqual(returns, [], (name, node.name))
+                    continue
+                # One plain return, and so nothing is assigned or changed.
+                self.assertEqual(returns, method.body[-1:], (name, node.name))
+                self.assertEqual(len(method.body), 1, (name, node.name))
+                if method.name == "__len__":
+                    self.assertEqual(returns[0].value.func.id, "len", (name, node.name))
+
+    def test_iterated_at_once(self):
+        # range, zip and the like stand behind "in" or straight in what goes over them, never stored or passed on.
+        lazy = {"range", "zip", "enumerate", "reversed"}
+        takers = {"list", "tuple", "dict", "sorted", "sum", "any", "all", "enumerate", "zip", "min", "max"}
+        for name, tree in parsed():
+            allowed = set()
+            for node in ast.walk(tree):
+                if isinstance(node, (ast.For, ast.comprehension)):
+                    allowed.add(node.iter)
+                elif isinstance(node, ast.Compare):
+                    allowed.update(node.comparators)
+                elif isinstance(node, ast.Call) and isinstance(node.func, ast.Name):
+                    if node.func.id in takers:
+                        allowed.update(node.args)
+                    if node.func.id == "reversed":
+                        allowed.update(one for one in node.args if ast.unparse(one).startswith("range("))
+            for node in ast.walk(tree):
+                if isinstance(node, ast.Call) and isinstance(node.func, ast.Name) and node.func.id in lazy:
+                    self.assertIn(node, allowed, (name, ast.unparse(node)))
+
+
 if __name__ == "__main__":
     unittest.main()
