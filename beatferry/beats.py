@@ -13,13 +13,17 @@ def tree_at(q, hand, t, *, source=0):
     return k
 
 
-def due(q, m, hand, t, source):
-    """The letter that comes to the hand at beat t, None where there is none."""
+def letter_at(q, hand, t, source):
+    """The letter whose turn it is for the hand at beat t, however late; below 0 where none has set out."""
     k = t % q
     if has_bit(hand ^ source, k):
-        letter = t - arc(q, tree_at(q, hand, t, source=source), k)
-    else:
-        letter = t - q
+        return t - arc(q, tree_at(q, hand, t, source=source), k)
+    return t - q
+
+
+def due(q, m, hand, t, source):
+    """The letter that comes to the hand at beat t, None where there is none."""
+    letter = letter_at(q, hand, t, source)
     if letter < 0:
         return None
     return min(letter, m - 1)

@@ -6,6 +6,11 @@ def is_number(thing):
     return isinstance(thing, int) and not isinstance(thing, bool)
 
 
+def is_from_to(thing, least, most):
+    """Whether it is a whole number from the least to the most."""
+    return is_number(thing) and least <= thing <= most
+
+
 def is_hand(q, thing):
     """Whether it is one of the hands of q bits."""
     return is_number(thing) and 0 <= thing < 1 << q

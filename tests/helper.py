@@ -189,3 +189,77 @@ def check_asking(test, ask, named, source=None):
         same(test, ask(*places), ask(*places, source=0), ask.__name__, named)
         with test.assertRaises(TypeError):
             ask(*places, source)
+
+
+def check_refused(test, kind, ask, *values):
+    """ask() is refused with just this class, and keeps just this value, if any, the very one handed in."""
+    with test.assertRaises(kind) as caught:
+        ask()
+    test.assertIs(type(caught.exception), kind)
+    kept = list(vars(caught.exception).values())
+    test.assertEqual(len(kept), len(values), kind)
+    for one, value in zip(kept, values):
+        same(test, one, value, kind)
+        if not isinstance(value, int):
+            test.assertIs(one, value)
+
+
+class WalkedHouse:
+    """A house as points 18 and 19 word it: who tells whom what is walked along all ways ahead of time."""
+
+    def __init__(self, q, p, k):
+        self.q, self.p, self.k = q, p, k
+        self.silent, self.lies = set(), {}
+        self.source = None
+        self.rows, self.letters, self.heard, self.due, self.bad, self.beat = (), (), {}, {}, set(), 0
+
+    def tell(self, source, rows):
+        self.source, self.rows = source, rows
+        self.letters = tuple(written_value(self.p, row, x) for row in rows for x in range(1, self.q + 1))
+        self.heard = {hand: [None] * len(self.letters) for hand in range(2 ** self.q)}
+        self.heard[source] = list(self.letters)
+        self.bad, self.beat = set(), 0
+        self.due = {
+            (hand, i): comes(self.q, hand, i, source)
+            for hand in range(2 ** self.q) if hand != source for i in range(len(self.letters))}
+
+    def under_way(self):
+        return self.source is not None and self.beat < len(self.letters) + self.q
+
+    def untrue(self):
+        return self.silent | {hand for hand, _ in self.lies}
+
+    def mend(self, hand):
+        self.silent.discard(hand)
+        self.lies = {place: more for place, more in self.lies.items() if place[0] != hand}
+
+    def lie(self, hand, bit, more):
+        self.lies.pop((hand, bit), None)
+        if more:
+            self.lies[hand, bit] = more
+
+    def step(self):
+        news = {}
+        for (hand, i), t in self.due.items():
+            if t == self.beat:
+                teller = written_way(self.q, hand, i % self.q, self.source)[-2]
+                number = self.heard[teller][i]
+                more = self.lies.get((teller, t % self.q), 0)
+                if teller in self.silent:
+                    number = None
+                elif more:
+                    number = more if number is None else (number + more) % self.p
+                news[hand, i] = number
+        for (hand, i), number in news.items():
+            self.heard[hand][i] = number
+        self.bad |= self.untrue()
+        self.beat += 1
+
+    def rounds(self, hand):
+        """For each row its q letters as heard, None where one of them is still to come."""
+        told = []
+        for first in range(0, len(self.letters), self.q):
+            places = range(first, first + self.q)
+            done = all(self.due[hand, i] < self.beat for i in places)
+            told.append(tuple(self.heard[hand][i] for i in places) if done else None)
+        return told
