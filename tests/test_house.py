@@ -51,7 +51,7 @@ class Made(unittest.TestCase):
         """The first of these that isn't so, None where all are."""
         if not is_number(q) or not 1 <= q <= 6:
             return (q,)
-        if not is_number(p) or not q < p < 10 ** 9 or any(p % by == 0 for by in range(2, p) if by * by <= p):
+        if not is_number(p) or not q < p < 10 ** 9 or any(p % by == 0 for by in range(2, p)):
             return (p,)
         if not is_number(k) or not 1 <= k <= q:
             return (k,)
@@ -76,7 +76,7 @@ class Made(unittest.TestCase):
                 self.check(q, p, 1)
         for p in (999999937, 999999893):
             same(self, House(6, p, 6).hands(), 64)
-        for p in (1000000007, 10 ** 9, 999999938, 999999937 - 44 * 7 + 1, 561, 1105, 10 ** 18, -7, 25326001, 2 ** 61 - 1):
+        for p in (1000000007, 10 ** 9, 999999938, 999999936, 561, 1105, 10 ** 18, -7, 25326001, 2 ** 61 - 1):
             check_refused(self, BadHouse, lambda: House(3, p, 2), p)
 
     def test_of_anything(self):
