@@ -21,10 +21,8 @@ def back_told(q, m, hand, u, *, source=0):
     """The hand across and the letter of which this one gives it its part at beat u, None where there is none."""
     t = turned_beat(q, m, u)
     news = heard(q, m, hand, t, source=source)
-    if news is None or hand == source:
-        return None
-    # The last letter is told on and on, but given back only where it was first heard.
-    if since(q, m, hand, news[1], source=source) != t:
+    # Of the source since tells None, so nothing that it is told was ever first heard.
+    if news is None or since(q, m, hand, news[1], source=source) != t:
         return None
     return news
 

@@ -108,6 +108,17 @@ def walked(q, m, source, beats):
     return came
 
 
+def first_hearings(q, m, source):
+    """By (hand, letter) the beat and the teller of its first hearing: by a walk of all letters, beat by beat."""
+    came = walked(q, m, source, m + 3 * q)
+    first = {}
+    for hand, t in sorted(came, key=lambda key: key[1]):
+        teller, letter = came[hand, t]
+        if hand != source:
+            first.setdefault((hand, letter), (t, teller))
+    return first
+
+
 def written_value(p, row, x):
     """The sum as point 10 words it."""
     return sum(number * x ** at for at, number in enumerate(row)) % p

@@ -4,18 +4,7 @@ import unittest
 
 from beatferry.back import back_heard, back_told, first_teller
 from beatferry.having import end, since
-from helper import check_asking, counted, drawn, same, walked, written_since
-
-
-def first_hearings(q, m, source):
-    """By (hand, letter) the beat and the teller of its first hearing: by a walk of all letters, beat by beat."""
-    came = walked(q, m, source, m + 3 * q)
-    first = {}
-    for hand, t in sorted(came, key=lambda key: key[1]):
-        teller, letter = came[hand, t]
-        if hand != source:
-            first.setdefault((hand, letter), (t, teller))
-    return first
+from helper import check_asking, counted, drawn, first_hearings, same, written_since
 
 
 def written_back(q, m, source):

@@ -654,8 +654,27 @@ class Alike(unittest.TestCase):
             other.tell(source, rows)
             self.equal(base, other, False)
         self.equal(base, House(2, 5, 1), False)
+        # Behind the end all hands heard the same, whoever told it.
+        self.equal(ended(2, 5, 1, 0, ((1,),)), ended(2, 5, 1, 1, ((1,),)), False)
         self.equal(ended(2, 5, 1, 0, ((1,),)), House(2, 5, 1), False)
         self.equal(ended(2, 5, 1, 0, ((1,),)), ended(2, 5, 1, 0, ((1,),)), True)
+
+    def test_its_beats_alone(self):
+        # All others being silent nothing is heard behind the beat at which the source tells its last letter.
+        house = House(2, 5, 1)
+        for hand in (1, 2, 3):
+            house.silence(hand)
+        house.tell(0, ((1,),))
+        house.step()
+        house.step()
+        for _ in range(2):
+            twin = house.copy()
+            twin.step()
+            same(self, [house.heard(hand) for hand in range(4)], [twin.heard(hand) for hand in range(4)])
+            same(self, house.bad(), twin.bad())
+            self.equal(house, twin, False)
+            house.step()
+            self.equal(house, twin, True)
 
     def test_who_was_bad_and_what_was_heard(self):
         # By a bit and a beat at which 3 tells no letter, so only that it was bad is otherwise.

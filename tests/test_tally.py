@@ -3,7 +3,7 @@ import unittest
 
 from beatferry.errors import BadNumbers, Early, Ended
 from beatferry.tally import Tally
-from helper import mutants, oddities, same, walked
+from helper import first_hearings, mutants, oddities, same
 
 GREAT = 999999937
 
@@ -14,14 +14,8 @@ def drawn_numbers(chance, q, p, m):
 
 def written_givings(q, m, source):
     """By beat u the (teller, hearer, letter), by the walk of point 7 turned round."""
-    came = walked(q, m, source, m + 3 * q)
-    first = {}
-    for hand, t in sorted(came, key=lambda key: key[1]):
-        teller, letter = came[hand, t]
-        if hand != source:
-            first.setdefault((hand, letter), (t, teller))
     beats = [[] for _ in range(m - 1 + q)]
-    for (hand, letter), (t, teller) in first.items():
+    for (hand, letter), (t, teller) in first_hearings(q, m, source).items():
         beats[m - 2 + q - t].append((hand, teller, letter))
     return beats
 
